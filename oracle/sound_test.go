@@ -86,6 +86,22 @@ func TestSoundPairs(t *testing.T) {
 	}
 }
 
+// P11.2: two that meet in one byte: one of them is at no multiple of its size; two that just touch are sound.
+func TestSoundOneByte(t *testing.T) {
+	for order := range 9 {
+		c := config(order, 2)
+		for _, size := range sizesOf(c) {
+			next := c.Base + size
+			wantsSound(t, c, 2, blocks(c.Base, size, next, size), -1)
+			wantsSound(t, c, 2, blocks(next, size, c.Base, size), -1)
+			wantsSound(t, c, 2, blocks(c.Base, size, next-1, size), 1)
+			wantsSound(t, c, 2, blocks(next-1, size, c.Base, size), 0)
+			wantsSound(t, c, 2, blocks(c.Base, size, next-16, 16), 1)
+			wantsSound(t, c, 2, blocks(next-16, 16, c.Base, size), 1)
+		}
+	}
+}
+
 // P11.2: two sizes on one page are found wherever they stand in the list, the first and the last of it too.
 func TestSoundMixed(t *testing.T) {
 	c := config(1, 2)
